@@ -1,0 +1,1 @@
+"""Functions at ranks: the calls stand in rankedfunctions.ranks."""

@@ -1,0 +1,85 @@
+import unittest
+
+from rankedfunctions import ranks
+from texts import BASES, BLANKS, FAULTS, FUNCTION, LONG, LONGS, MODIFIERS, PLAINS
+from texts import coded, combined_texts, told
+
+
+class PlainTest(unittest.TestCase):
+    def expect(self, f, answer):
+        before = list(f)
+        first = ranks.plain(f)
+        self.assertEqual(first, answer, repr(f))
+        self.assertIs(type(first), list)
+        for number in first:
+            self.assertIs(type(number), int)
+        self.assertEqual(f, before)
+        # What was given back is the caller's: to change it changes no later answer.
+        first.append(0)
+        self.assertEqual(ranks.plain(f), answer)
+
+    def expect_plain(self, text, plain):
+        self.expect(coded(text), [0] + coded(plain))
+
+    def test_each_base_function(self):
+        for base in BASES:
+            self.expect_plain(base, base)
+            self.expect_plain("  " + base + "\n", base)
+
+    def test_each_base_function_with_each_modifier(self):
+        for base in BASES:
+            for modifier in MODIFIERS:
+                self.expect_plain(base + modifier, base + modifier)
+                self.expect_plain(base + " " + modifier + " ", base + modifier)
+
+    def test_each_modifier_behind_each(self):
+        for first in MODIFIERS:
+            for second in MODIFIERS:
+                plain = "Join" + first + second
+                self.expect_plain(plain, plain)
+                self.expect_plain("Join\t" + first + "\r\n" + second, plain)
+
+    def test_functions(self):
+        for text, plain in PLAINS:
+            self.expect_plain(text, plain)
+            self.expect_plain(plain, plain)
+
+    def test_blanks_of_each_kind(self):
+        for blank in BLANKS:
+            gap = [blank] * 2
+            f = gap + coded("Mod") + gap + coded(":at") + gap + coded("2") + gap + coded(":scan") + gap
+            self.expect(f, [0] + coded("Mod:at 2:scan"))
+
+    def test_the_longest_plain_text(self):
+        longest = "Reshape" + ":table" * 8
+        self.assertEqual(len(longest), 55)
+        self.expect_plain(longest, longest)
+
+    def test_no_functions(self):
+        for text, place in FAULTS:
+            self.expect(coded(text), [FUNCTION])
+
+    def test_no_function_of_one_byte(self):
+        for byte in range(256):
+            if byte not in coded("+-*<="):
+                self.expect([byte], [FUNCTION])
+
+    def test_long(self):
+        for text in LONGS:
+            self.expect(coded(text), [LONG])
+
+    def test_just_long_enough(self):
+        self.expect_plain("+:at" + " " * 251 + "5", "+:at 5")
+        self.expect(coded("+:at" + " " * 252 + "5"), [LONG])
+        self.expect(coded("?" * 256), [FUNCTION])
+        self.expect(coded("?" * 257), [LONG])
+
+    def test_all_that_few_pieces_make(self):
+        for text in combined_texts():
+            plain = told(text)[1]
+            answer = [FUNCTION] if plain is None else [0] + coded(plain)
+            self.assertEqual(ranks.plain(coded(text)), answer, repr(text))
+
+
+if __name__ == "__main__":
+    unittest.main()
