@@ -7,15 +7,25 @@ MOST_BYTES = 256
 MOST_MODIFIERS = 8
 
 # Each sign is a base function too: with these words they are 34.
-BASE_WORDS = (
-    "Shape", "Count", "Ravel", "Iota", "Flip", "Turn", "Grade", "Where", "First",
+WORDS_OF_ONE = (
+    "Shape", "Count", "Ravel", "Iota", "Flip", "Turn", "Grade", "Where", "First", "Abs", "Sign", "Not",
+)
+WORDS_OF_TWO = (
     "Reshape", "Take", "Drop", "Rotate", "Join", "Pick", "Find", "Same", "Keep",
-    "Abs", "Sign", "Not",
     "Div", "Mod", "Min", "Max", "And", "Or",
 )
+FOLD = ":fold"
+SCAN = ":scan"
+TABLE = ":table"
+SWAP = ":swap"
 AT = ":at"
 MODIFIER_WORDS = (":fold", ":scan", ":table", ":swap", ":at")
 RANK_DIGITS = ("0", "1", "2", "3", "4", "5")
+
+
+# How a function may be used, as one number: with neither is 0, with both the sum.
+WITH_ONE = 1
+WITH_TWO = 2
 
 
 class Function:
@@ -55,7 +65,7 @@ def read_function(text):
     if len(text) > MOST_BYTES:
         raise TooLong()
     token = token_from(text, 0)
-    base = name_among(SIGNS + BASE_WORDS, token)
+    base = name_among(SIGNS + WORDS_OF_ONE + WORDS_OF_TWO, token)
     return Function(base, read_modifiers(text, token.end))
 
 
@@ -67,3 +77,33 @@ def plain_text(function):
         if modifier[1] is not None:
             parts.append(" " + str(modifier[1]))
     return bytes_of("".join(parts))
+
+
+def function_below(function):
+    """The function that the last modifier is worked on."""
+    return Function(function.base, function.modifiers[:-1])
+
+
+def uses_of_base(base):
+    if base == "-":
+        return WITH_ONE + WITH_TWO
+    if base in WORDS_OF_ONE:
+        return WITH_ONE
+    return WITH_TWO
+
+
+def may_with_one(uses):
+    return (uses & WITH_ONE) != 0
+
+
+def may_with_two(uses):
+    return (uses & WITH_TWO) != 0
+
+
+def uses_of(function):
+    """With how many operands the function may be used: WITH_ONE and WITH_TWO added up."""
+    uses = uses_of_base(function.base)
+    for modifier in function.modifiers:
+        if modifier[0] in (FOLD, SCAN, SWAP):
+            uses = WITH_ONE + WITH_TWO if may_with_two(uses) else 0
+    return uses

@@ -1,7 +1,9 @@
 """The calls: each takes lists of whole numbers and gives back a list of whole numbers."""
 
-from rankedfunctions.functions import plain_text, read_function
-from rankedfunctions.refusals import FUNCTION, LONG, NoFunction, TooLong
+from rankedfunctions.arrays import handed_array
+from rankedfunctions.functions import may_with_one, plain_text, read_function, uses_of
+from rankedfunctions.refusals import LONG, NoFunction, NoSuchUse, TooLong, answer_of
+from rankedfunctions.working import work_of_one
 
 
 def where(f):
@@ -17,10 +19,26 @@ def where(f):
 
 def plain(f):
     """0 and the plain text of the function whose text f is."""
-    try:
-        function = read_function(f)
-    except TooLong:
-        return [LONG]
-    except NoFunction:
-        return [FUNCTION]
-    return [0] + plain_text(function)
+    return answer_of(lambda: [0] + plain_text(read_function(f)))
+
+
+def uses(f):
+    """1 if the function may be used with one operand, and 2 more if it may with two."""
+    return answer_of(lambda: [uses_of(read_function(f))])
+
+
+def answered_array(array):
+    return [0, len(array.shape)] + array.shape + [len(array.data)] + array.data
+
+
+def worked_with_one(f, y_shape, y_data):
+    function = read_function(f)
+    y = handed_array(y_shape, y_data)
+    if not may_with_one(uses_of(function)):
+        raise NoSuchUse()
+    return work_of_one(function, y)
+
+
+def one(f, y_shape, y_data):
+    """0 and the array that the function answers of y."""
+    return answer_of(lambda: answered_array(worked_with_one(f, y_shape, y_data)))

@@ -1,25 +1,16 @@
 import unittest
 
 from rankedfunctions import ranks
-from texts import BASES, BLANKS, FAULTS, FUNCTION, LONG, LONGS, MODIFIERS, PLAINS
-from texts import coded, combined_texts, told
+from calls import FUNCTION, LONG, CallTest, coded
+from texts import BASES, BLANKS, FAULTS, LONGS, MODIFIERS, PLAINS, combined_texts, told
 
 
-class PlainTest(unittest.TestCase):
-    def expect(self, f, answer):
-        before = list(f)
-        first = ranks.plain(f)
-        self.assertEqual(first, answer, repr(f))
-        self.assertIs(type(first), list)
-        for number in first:
-            self.assertIs(type(number), int)
-        self.assertEqual(f, before)
-        # What was given back is the caller's: to change it changes no later answer.
-        first.append(0)
-        self.assertEqual(ranks.plain(f), answer)
+class PlainTest(CallTest):
+    def expect_answer(self, f, answer):
+        self.expect(ranks.plain, [f], answer)
 
     def expect_plain(self, text, plain):
-        self.expect(coded(text), [0] + coded(plain))
+        self.expect_answer(coded(text), [0] + coded(plain))
 
     def test_each_base_function(self):
         for base in BASES:
@@ -48,7 +39,7 @@ class PlainTest(unittest.TestCase):
         for blank in BLANKS:
             gap = [blank] * 2
             f = gap + coded("Mod") + gap + coded(":at") + gap + coded("2") + gap + coded(":scan") + gap
-            self.expect(f, [0] + coded("Mod:at 2:scan"))
+            self.expect_answer(f, [0] + coded("Mod:at 2:scan"))
 
     def test_the_longest_plain_text(self):
         longest = "Reshape" + ":table" * 8
@@ -57,22 +48,22 @@ class PlainTest(unittest.TestCase):
 
     def test_no_functions(self):
         for text, place in FAULTS:
-            self.expect(coded(text), [FUNCTION])
+            self.expect_answer(coded(text), [FUNCTION])
 
     def test_no_function_of_one_byte(self):
         for byte in range(256):
             if byte not in coded("+-*<="):
-                self.expect([byte], [FUNCTION])
+                self.expect_answer([byte], [FUNCTION])
 
     def test_long(self):
         for text in LONGS:
-            self.expect(coded(text), [LONG])
+            self.expect_answer(coded(text), [LONG])
 
     def test_just_long_enough(self):
         self.expect_plain("+:at" + " " * 251 + "5", "+:at 5")
-        self.expect(coded("+:at" + " " * 252 + "5"), [LONG])
-        self.expect(coded("?" * 256), [FUNCTION])
-        self.expect(coded("?" * 257), [LONG])
+        self.expect_answer(coded("+:at" + " " * 252 + "5"), [LONG])
+        self.expect_answer(coded("?" * 256), [FUNCTION])
+        self.expect_answer(coded("?" * 257), [LONG])
 
     def test_all_that_few_pieces_make(self):
         for text in combined_texts():

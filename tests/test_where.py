@@ -1,81 +1,75 @@
 import unittest
 
 from rankedfunctions import ranks
-from texts import BASES, BLANKS, DIGITS, FAULTS, LETTERS, LONG, LONGS, MODIFIERS, PLAINS
-from texts import coded, combined_texts, told
+from calls import LONG, CallTest, coded
+from texts import BASES, BLANKS, DIGITS, FAULTS, LETTERS, LONGS, MODIFIERS, PLAINS, combined_texts, told
 
 
-class WhereTest(unittest.TestCase):
-    def expect(self, text, answer):
+class WhereTest(CallTest):
+    def expect_answer(self, text, answer):
         f = coded(text) if isinstance(text, str) else text
-        before = list(f)
-        first = ranks.where(f)
-        self.assertEqual(first, [answer], repr(text))
-        self.assertIs(type(first), list)
-        self.assertIs(type(first[0]), int)
-        self.assertEqual(f, before)
-        self.assertEqual(ranks.where(f), first)
+        self.expect(ranks.where, [f], [answer])
 
     def expect_behind(self, text, answer_of):
         """For each byte behind the text."""
         for byte in range(256):
-            self.expect(coded(text) + [byte], answer_of(byte))
+            self.expect_answer(coded(text) + [byte], answer_of(byte))
 
     def test_each_base_function(self):
         self.assertEqual(len(set(BASES)), 34)
         for base in BASES:
-            self.expect(base, 0)
+            self.expect_answer(base, 0)
 
     def test_each_base_function_with_each_modifier(self):
         for base in BASES:
             for modifier in MODIFIERS:
-                self.expect(base + modifier, 0)
+                self.expect_answer(base + modifier, 0)
 
     def test_each_modifier_behind_each(self):
         for first in MODIFIERS:
             for second in MODIFIERS:
-                self.expect("Join" + first + second, 0)
+                self.expect_answer("Join" + first + second, 0)
 
     def test_each_base_function_with_other_case(self):
         for base in BASES:
             if base.isalpha():
-                self.expect(base.lower(), 1)
-                self.expect(base.upper(), 1)
-                self.expect(base[:-1], 1)
-                self.expect(base + "s", 1)
+                self.expect_answer(base.lower(), 1)
+                self.expect_answer(base.upper(), 1)
+                self.expect_answer(base[:-1], 1)
+                self.expect_answer(base + "s", 1)
 
     def test_functions(self):
         for text, plain in PLAINS:
-            self.expect(text, 0)
-            self.expect(plain, 0)
+            self.expect_answer(text, 0)
+            self.expect_answer(plain, 0)
 
     def test_faults(self):
         for text, answer in FAULTS:
-            self.expect(text, answer)
+            self.expect_answer(text, answer)
 
     def test_blanks_of_each_kind(self):
         for blank in BLANKS:
             gap = [blank]
-            self.expect(gap, 2)
-            self.expect(gap * 3, 4)
-            self.expect(gap + coded("+"), 0)
-            self.expect(coded("+") + gap, 0)
-            self.expect(coded("+") + gap + coded(":fold") + gap + coded(":at") + gap + coded("5") + gap, 0)
-            self.expect(coded("+:at") + gap + coded("6"), 6)
-            self.expect(coded("+:") + gap + coded("at 5"), 2)
-            self.expect(coded("A") + gap + coded("bs"), 1)
-            self.expect(coded("<") + gap + coded("="), 3)
-            self.expect(coded("+:at 1") + gap + coded("0"), 8)
+            self.expect_answer(gap, 2)
+            self.expect_answer(gap * 3, 4)
+            self.expect_answer(gap + coded("+"), 0)
+            self.expect_answer(coded("+") + gap, 0)
+            self.expect_answer(coded("+") + gap + coded(":fold") + gap + coded(":at") + gap + coded("5") + gap, 0)
+            self.expect_answer(coded("+:at") + gap + coded("6"), 6)
+            self.expect_answer(coded("+:") + gap + coded("at 5"), 2)
+            self.expect_answer(coded("A") + gap + coded("bs"), 1)
+            self.expect_answer(coded("<") + gap + coded("="), 3)
+            self.expect_answer(coded("+:at 1") + gap + coded("0"), 8)
 
     def test_long(self):
         for text in LONGS:
-            self.expect(text, LONG)
+            self.expect_answer(text, LONG)
 
     def test_just_long_enough(self):
-        self.expect("+" + " " * 255, 0)
-        self.expect("+" + " " * 256, LONG)
-        self.expect("?" * 256, 1)
-        self.expect("?" * 257, LONG)
+        self.expect_answer("+" + " " * 255, 0)
+        self.expect_answer("+" + " " * 256, LONG)
+        self.expect_answer("?" * 256, 1)
+        self.expect_answer("?" * 257, LONG)
 
     def test_each_byte_first(self):
         def answer_of(byte):
@@ -127,9 +121,9 @@ class WhereTest(unittest.TestCase):
     def test_each_modifier_as_the_eighth_and_the_ninth(self):
         for modifier in MODIFIERS:
             eight = "+" + ":swap" * 7 + modifier
-            self.expect(eight, 0)
-            self.expect(eight + modifier, len(eight) + 1)
-            self.expect(eight + " " + modifier, len(eight) + 2)
+            self.expect_answer(eight, 0)
+            self.expect_answer(eight + modifier, len(eight) + 1)
+            self.expect_answer(eight + " " + modifier, len(eight) + 2)
 
     def test_all_that_few_pieces_make(self):
         for text in combined_texts():

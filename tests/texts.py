@@ -1,4 +1,4 @@
-"""What the tests of where and plain both use."""
+"""Functions' texts, and others, for the tests of where, plain and uses."""
 
 import itertools
 import re
@@ -14,15 +14,8 @@ BLANKS = (32, 9, 10, 13)
 LETTERS = tuple(range(65, 91)) + tuple(range(97, 123))
 DIGITS = tuple(range(48, 58))
 
-LONG = -21
-FUNCTION = -22
-
 TOKEN = re.compile(r":?[A-Za-z]+|[0-9]+|<=|/=|[-+*<=]")
 PIECES = ("+", "<", "=", "/", "Abs", "abs", ":fold", ":at", ":", "5", "6", " ", "\n", "?")
-
-
-def coded(text):
-    return [ord(sign) for sign in text]
 
 
 def combined_texts():
