@@ -10,13 +10,15 @@ from rankedfunctions.scalars import is_scalar_of_one, is_scalar_of_two, scalar_o
 FOLDS_OF_NOTHING = {"+": 0, "Or": 0, "*": 1, "And": 1}
 
 
-def base_of_one(base, y):
+def base_of_one(base, y, tally):
+    tally.add_one()
     if is_scalar_of_one(base):
         return scalar_of_one(base, y)
     return move_of_one(base, y)
 
 
-def base_of_two(base, x, y):
+def base_of_two(base, x, y, tally):
+    tally.add_one()
     if is_scalar_of_two(base):
         return scalar_of_two(base, x, y)
     return move_of_two(base, x, y)
@@ -29,48 +31,48 @@ def fold_of_nothing(function):
     return FOLDS_OF_NOTHING.get(function.base)
 
 
-def work_of_one(function, y):
+def work_of_one(function, y, tally):
     """What the function, which may be used with one operand, answers of y."""
     if len(function.modifiers) == 0:
-        return base_of_one(function.base, y)
+        return base_of_one(function.base, y, tally)
     below = function_below(function)
     word = function.modifiers[-1][0]
     rank = function.modifiers[-1][1]
 
-    def below_of_one(cell):
-        return work_of_one(below, cell)
+    def below_of_one(cell, its_tally):
+        return work_of_one(below, cell, its_tally)
 
-    def below_of_two(left, right):
-        return work_of_two(below, left, right)
+    def below_of_two(left, right, its_tally):
+        return work_of_two(below, left, right, its_tally)
 
     if word == AT:
-        return at_of_one(below_of_one, rank, y)
+        return at_of_one(below_of_one, rank, y, tally)
     if word == TABLE:
-        return at_of_one(below_of_one, 0, y)
+        return at_of_one(below_of_one, 0, y, tally)
     if word == FOLD:
-        return fold_of_one(below_of_two, fold_of_nothing(below), y)
+        return fold_of_one(below_of_two, fold_of_nothing(below), y, tally)
     if word == SCAN:
-        return scan_of_one(below_of_two, y)
-    return below_of_two(y, y)
+        return scan_of_one(below_of_two, y, tally)
+    return below_of_two(y, y, tally)
 
 
-def work_of_two(function, x, y):
+def work_of_two(function, x, y, tally):
     """What the function, which may be used with two operands, answers of x and y."""
     if len(function.modifiers) == 0:
-        return base_of_two(function.base, x, y)
+        return base_of_two(function.base, x, y, tally)
     below = function_below(function)
     word = function.modifiers[-1][0]
     rank = function.modifiers[-1][1]
 
-    def below_of_two(left, right):
-        return work_of_two(below, left, right)
+    def below_of_two(left, right, its_tally):
+        return work_of_two(below, left, right, its_tally)
 
     if word == AT:
-        return at_of_two(below_of_two, rank, x, y)
+        return at_of_two(below_of_two, rank, x, y, tally)
     if word == TABLE:
-        return table_of_two(below_of_two, x, y)
+        return table_of_two(below_of_two, x, y, tally)
     if word == FOLD:
-        return fold_of_two(below_of_two, x, y)
+        return fold_of_two(below_of_two, x, y, tally)
     if word == SCAN:
-        return scan_of_two(below_of_two, x, y)
-    return below_of_two(y, x)
+        return scan_of_two(below_of_two, x, y, tally)
+    return below_of_two(y, x, tally)

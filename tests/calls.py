@@ -33,6 +33,20 @@ def counted(extents):
     return list(range(count))
 
 
+def scalar(number):
+    """An array as the tests of two operands write it: a shape and data."""
+    return [], [number]
+
+
+def vector(*numbers):
+    return [len(numbers)], list(numbers)
+
+
+def empty(*extents):
+    """An array of which one extent or more is 0."""
+    return list(extents), []
+
+
 def listed(answer):
     """What a call gives back: answer is a refusal's number, or a shape and data."""
     if isinstance(answer, int):
@@ -65,3 +79,19 @@ class OneTest(CallTest):
     def expect_rows(self, rows):
         for text, shape, data, answer in rows:
             self.expect_one(text, shape, data, answer)
+
+
+class TwoTest(CallTest):
+    def expect_two(self, text, x, y, answer):
+        """x and y: each a shape and data; answer: a refusal's number, or a shape and data."""
+        self.expect(ranks.two, [coded(text), *x, *y], listed(answer))
+
+    def expect_rows(self, rows):
+        for text, x, y, answer in rows:
+            self.expect_two(text, x, y, answer)
+
+
+class TallyTest(CallTest):
+    def expect_tally1(self, text, shape, data, answer):
+        """answer: a refusal's number, or how often the base function was worked."""
+        self.expect(ranks.tally1, [coded(text), shape, data], [answer] if answer < 0 else [0, answer])

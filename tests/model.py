@@ -347,23 +347,70 @@ def two(f, x, y):
         lambda: two(below, zero(x.shape[n:]), zero(y.shape[m:])))
 
 
+def times_along(f, begin, cells):
+    """How often f's base function is worked from one of the cells to the next."""
+    kept = along(f, begin, cells)
+    return sum(times_two(f, so_far, one_cell) for so_far, one_cell in zip(kept, cells))
+
+
+def times_one(f, y):
+    """How often the base function is worked where one answers an array: from the cells that there are alone."""
+    if len(f) == 1:
+        return 1
+    below, modifier = f[:-1], f[-1]
+    if modifier == ":swap":
+        return times_two(below, y, y)
+    if modifier in (":fold", ":scan"):
+        cells = own_cells(vectored(y))
+        return times_along(below, cells[0], cells[1:]) if cells else 0
+    k = 0 if modifier == ":table" else int(modifier[-1])
+    return sum(times_one(below, cell(y, i)) for i in indexes(y.shape[:max(y.rank - k, 0)]))
+
+
+def times_two(f, x, y):
+    if len(f) == 1:
+        return 1
+    below, modifier = f[:-1], f[-1]
+    if modifier == ":swap":
+        return times_two(below, y, x)
+    if modifier in (":fold", ":scan"):
+        return times_along(below, x, own_cells(vectored(y)))
+    if modifier == ":table":
+        n, frame = x.rank, x.shape + y.shape
+        return sum(times_two(below, cell(x, i[:n]), cell(y, i[n:])) for i in indexes(frame))
+    k = int(modifier[-1])
+    n, m = max(x.rank - k, 0), max(y.rank - k, 0)
+    frame = agreed(x.shape[:n], y.shape[:m])
+    return sum(times_two(below, cell(x, i[:n]), cell(y, i[:m])) for i in indexes(frame))
+
+
 def lists(answer):
     return list(answer.shape), answer.data()
 
 
-def told_one(f, shape, data):
-    """What one answers of the function f, which is a list of its base and its modifiers."""
+def told(f, operands, answer_of):
+    """What's told of the function f, which is a list of its base and its modifiers, and of operands as two lists."""
     try:
-        y = from_lists(shape, data)
-        require(1 in uses(f), USE)
-        return lists(one(f, y))
+        arrays = [from_lists(*operand) for operand in operands]
+        require(len(operands) in uses(f), USE)
+        return answer_of(f, *arrays)
     except Refused as refused:
         return refused.number
+
+
+def told_one(f, shape, data):
+    """What one answers: a refusal's number, or a shape and data."""
+    return told(f, [(shape, data)], lambda f, y: lists(one(f, y)))
 
 
 def told_two(f, x, y):
-    """What the function f, which may be used with two operands, answers of two arrays, each a shape and data."""
-    try:
-        return lists(two(f, from_lists(*x), from_lists(*y)))
-    except Refused as refused:
-        return refused.number
+    """What two answers of two arrays, each a shape and data."""
+    return told(f, [x, y], lambda f, x, y: lists(two(f, x, y)))
+
+
+def told_tally1(f, shape, data):
+    """What tally1 answers: a refusal's number alone, or 0 and how often the base function is worked."""
+    refusal = told_one(f, shape, data)
+    if isinstance(refusal, int):
+        return [refusal]
+    return [0, told(f, [(shape, data)], times_one)]

@@ -24,6 +24,15 @@ class Sampler:
         shape = [self.choose((0, 1, 1, 2, 2, 2, 3)) for _ in range(self.choose((0, 1, 1, 2, 2, 3, 3, 4, 5)))]
         return self.filled(shape, (-2, -1, 0, 0, 1, 1, 2, 3))
 
+    def arrays(self):
+        """Two, of which mostly one's shape begins or ends as the other's."""
+        shape = self.array()[0]
+        part = self.choose(range(len(shape) + 1))
+        other = self.choose((shape, shape[:part], shape[part:], shape[part:], self.array()[0]))
+        numbers = self.choose(((-2, -1, 0, 0, 1, 1, 2, 3), (0, 1), (1, 2), (0, 1, 1, 2)))
+        pair = [self.filled(shape, numbers), self.filled(other, numbers)]
+        return pair if self.choose((True, False)) else pair[::-1]
+
     def function(self):
         """One that may be used with one operand, mostly with few modifiers."""
         base = self.choose(BASES)

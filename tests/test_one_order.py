@@ -2,74 +2,9 @@
 
 import unittest
 
-from calls import BIGGEST, DOMAIN, FORM, FUNCTION, LONG, RANK, USE, OneTest
+from calls import DOMAIN, FORM, FUNCTION, LONG, RANK, USE, OneTest
+from forms import ARRAYS, NO_ARRAYS
 from texts import BASES, FAULTS, LONGS
-
-NO_ARRAYS = (
-    # an extent below 0
-    ([-1], []),
-    ([-1], [5]),
-    ([-1, -1], [5]),
-    ([2, -3], []),
-    ([0, -1], []),
-    ([-BIGGEST], []),
-    ([-2, -512], [0] * 1024),
-    # six extents, and more
-    ([1, 1, 1, 1, 1, 1], [5]),
-    ([0, 0, 0, 0, 0, 0], []),
-    ([1] * 3000, [5]),
-    ([BIGGEST] * 3000, []),
-    ([0] * 3000, []),
-    # a product above 1024, also where another extent is 0
-    ([1025], [0] * 1025),
-    ([32, 33], [0] * 1056),
-    ([2, 2, 2, 2, 65], [0] * 1040),
-    ([0, 1025], []),
-    ([1025, 0], []),
-    ([0, 1024, 2], []),
-    ([1024, 0, 2], []),
-    ([2, 1024, 0], []),
-    ([33, 0, 0, 0, 32], []),
-    ([BIGGEST], []),
-    ([BIGGEST, 0], []),
-    ([BIGGEST] * 5, []),
-    # too few and too many data
-    ([3], []),
-    ([3], [1, 2]),
-    ([3], [1, 2, 3, 4]),
-    ([2, 2], [1, 2, 3]),
-    ([2, 2], [1, 2, 3, 4, 5]),
-    ([1, 1, 1, 1, 1], []),
-    ([1, 1, 1, 1, 1], [1, 1]),
-    ([1024], [0] * 1023),
-    ([1024], [0] * 1025),
-    ([1], [0] * 3000),
-    # data of the empty shape that aren't one
-    ([], []),
-    ([], [1, 2]),
-    ([], [0] * 3000),
-    # data where an extent is 0
-    ([0], [1]),
-    ([0], [0]),
-    ([2, 0], [1, 2]),
-    ([0, 2], [1, 2]),
-    ([0, 1024], [0] * 1024),
-)
-
-ARRAYS = (
-    ([], [5]),
-    ([], [BIGGEST]),
-    ([], [-BIGGEST]),
-    ([0], []),
-    ([1024], list(range(1024))),
-    ([1, 1, 1, 1, 1], [5]),
-    ([4, 4, 4, 4, 4], list(range(1024))),
-    ([0, 0, 0, 0, 0], []),
-    ([0, 1024], []),
-    ([1024, 0], []),
-    ([32, 0, 32], []),
-    ([2, 512, 0, 1, 0], []),
-)
 
 # A function that may not be used with one operand, of each way to make one.
 WITHOUT_ONE = (
