@@ -68,3 +68,14 @@ def tallied_with_one(f, y_shape, y_data):
 def tally1(f, y_shape, y_data):
     """0 and how often the base function was worked where one answers an array."""
     return answer_of(lambda: tallied_with_one(f, y_shape, y_data))
+
+
+def tallied_with_two(f, x_shape, x_data, y_shape, y_data):
+    tally = Tally()
+    worked_with_two(f, x_shape, x_data, y_shape, y_data, tally)
+    return [0, tally.worked]
+
+
+def tally2(f, x_shape, x_data, y_shape, y_data):
+    """0 and how often the base function was worked where two answers an array."""
+    return answer_of(lambda: tallied_with_two(f, x_shape, x_data, y_shape, y_data))

@@ -92,6 +92,12 @@ class TwoTest(CallTest):
 
 
 class TallyTest(CallTest):
-    def expect_tally1(self, text, shape, data, answer):
+    def expect_tally(self, call, arguments, answer):
         """answer: a refusal's number, or how often the base function was worked."""
-        self.expect(ranks.tally1, [coded(text), shape, data], [answer] if answer < 0 else [0, answer])
+        self.expect(call, arguments, [answer] if answer < 0 else [0, answer])
+
+    def expect_tally1(self, text, shape, data, answer):
+        self.expect_tally(ranks.tally1, [coded(text), shape, data], answer)
+
+    def expect_tally2(self, text, x, y, answer):
+        self.expect_tally(ranks.tally2, [coded(text), *x, *y], answer)

@@ -408,9 +408,16 @@ def told_two(f, x, y):
     return told(f, [x, y], lambda f, x, y: lists(two(f, x, y)))
 
 
+def told_tally(f, operands, answer, times):
+    """A refusal's number alone, or 0 and how often the base function is worked."""
+    if isinstance(answer, int):
+        return [answer]
+    return [0, told(f, operands, times)]
+
+
 def told_tally1(f, shape, data):
-    """What tally1 answers: a refusal's number alone, or 0 and how often the base function is worked."""
-    refusal = told_one(f, shape, data)
-    if isinstance(refusal, int):
-        return [refusal]
-    return [0, told(f, [(shape, data)], times_one)]
+    return told_tally(f, [(shape, data)], told_one(f, shape, data), times_one)
+
+
+def told_tally2(f, x, y):
+    return told_tally(f, [x, y], told_two(f, x, y), times_two)
